@@ -1,0 +1,1 @@
+"""Figurerounds: sums of powers of figures, taken again and again."""

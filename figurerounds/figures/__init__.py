@@ -1,0 +1,1 @@
+"""Numbers by their figures."""

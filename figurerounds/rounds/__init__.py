@@ -1,0 +1,1 @@
+"""What becomes of numbers whose step is taken again and again."""
