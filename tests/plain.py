@@ -50,3 +50,58 @@ def edge_numbers(base):
         numbers += [power - 1, power, min(power + 1, bound - 1)]
         power *= base
     return sorted(set(numbers))
+
+
+def plain_row(number, base, power):
+    """The numbers that steps lead to from this one on, each once, and where the round among them begins."""
+    row = []
+    while number not in row:
+        row.append(number)
+        number = plain_step(number, base, power)
+    return row, row.index(number)
+
+
+def plain_end(number, base, power):
+    row, away = plain_row(number, base, power)
+    return away, min(row[away:])
+
+
+def plain_ends(bound, base, power):
+    """Where the numbers below the bound end: each by walking the row of its own steps."""
+    steps = steps_below(max(bound, base ** plain_length(base, power)), base, power)
+    ends = []
+    for start in range(bound):
+        row = {}
+        number = start
+        while number not in row:
+            row[number] = len(row)
+            number = steps[number]
+        away = row[number]
+        ends.append((away, min(list(row)[away:])))
+    return ends
+
+
+def plain_rounds(base, power):
+    """All rounds, found from each of the numbers that do not go down."""
+    steps = steps_below(base ** plain_length(base, power), base, power)
+    rounds = {}
+    for start, step in enumerate(steps):
+        if step < start:
+            continue
+        row = []
+        number = start
+        while number not in row:
+            row.append(number)
+            number = steps[number]
+        turn = row[row.index(number):]
+        at = turn.index(min(turn))
+        rounds[min(turn)] = tuple(turn[at:] + turn[:at])
+    return tuple(rounds[least] for least in sorted(rounds))
+
+
+def plain_paper(number, base, power):
+    least = plain_end(number, base, power)[1]
+    row = [number]
+    while row.count(least) < 2:
+        row.append(plain_step(row[-1], base, power))
+    return tuple(row)

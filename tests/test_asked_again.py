@@ -2,7 +2,10 @@
 
 import unittest
 
-from figurerounds.errors import NoNumber
+from figurerounds.counts.below import counts_below, nth_in, place_of
+from figurerounds.errors import NoNumber, NoRound
+from figurerounds.figures.least import how_many_with, least_away, least_with
+from figurerounds.figures.own import own_numbers
 from figurerounds.figures.written import (
     figures_of,
     number_shown,
@@ -11,6 +14,7 @@ from figurerounds.figures.written import (
     step_of,
 )
 from figurerounds.rounds.down import greatest_kept, length_down, length_shown
+from figurerounds.rounds.ends import end_of, end_paper, ends_of, paper_shown, rounds_of
 from tests.plain import PAIRS
 
 
@@ -24,7 +28,28 @@ def all_told(base, power):
         told.append(figures_of(number, base))
         told.append(step_of(number, base, power))
         told.append(row_from(number, base, power, 12))
+        told.append(end_of(number, base, power))
+        told.append(end_paper(number, base, power))
+        told.append(paper_shown(number, base, power, told[-1]))
+        told.append(place_of(number, base, power))
+        told.append(counts_below(number, base, power))
+    told.append(rounds_of(base, power))
+    told.append(ends_of((3, 3, base ** 12), base, power))
+    told.append(own_numbers(base, 3))
+    for total in (0, 7, 300):
+        told.append(least_with(total, base, power))
+        told.append(how_many_with(total, base, power, 4))
+    told.append(least_away(2, base, power))
+    for least in (0, 1, told[-1] or 0):
+        told.append(nth_or_refused(5, least, base, power))
     return told
+
+
+def nth_or_refused(place, least, base, power):
+    try:
+        return nth_in(place, least, base, power)
+    except NoRound as refusal:
+        return str(refusal)
 
 
 class AskedAgain(unittest.TestCase):
@@ -46,3 +71,15 @@ class AskedAgain(unittest.TestCase):
             places.append(caught.exception.place)
         self.assertEqual(places, [2, 2])
         self.assertEqual(all_told(10, 2), before)
+
+    def test_behind_a_round_that_there_is_not(self):
+        before = all_told(10, 2)
+        for _ in range(2):
+            with self.assertRaises(NoRound):
+                nth_in(0, 16, 10, 2)
+        self.assertEqual(all_told(10, 2), before)
+
+    def test_each_pair_behind_another_one(self):
+        pairs = ((10, 2), (9, 2), (10, 3), (2, 1), (11, 2), (10, 2))
+        told = [end_of(8, *pair) for pair in pairs]
+        self.assertEqual(told, [(5, 4), (2, 50), (6, 371), (1, 1), (4, 74), (5, 4)])

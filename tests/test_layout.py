@@ -15,6 +15,12 @@ LISTED = {
         "read_number", "number_shown", "figures_of", "step_of", "row_from",
     ),
     "figurerounds.rounds.down": ("greatest_kept", "length_down", "length_shown"),
+    "figurerounds.rounds.ends": (
+        "rounds_of", "end_of", "ends_of", "end_paper", "paper_shown",
+    ),
+    "figurerounds.figures.own": ("own_numbers",),
+    "figurerounds.figures.least": ("least_with", "how_many_with", "least_away"),
+    "figurerounds.counts.below": ("counts_below", "nth_in", "place_of"),
 }
 
 

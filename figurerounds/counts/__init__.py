@@ -1,0 +1,1 @@
+"""How many numbers end where, and which."""
