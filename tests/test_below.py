@@ -1,3 +1,5 @@
+import itertools
+import math
 import random
 import unittest
 
@@ -34,6 +36,17 @@ def great_numbers(base, power):
     return numbers + [worth - 1, worth, GREATEST - 1]
 
 
+def counts_by_handfuls(many, base, power):
+    """How many numbers below base ** many end in each round, by each handful of figures and its orders."""
+    counts = dict.fromkeys(leasts_of(base, power), 0)
+    for figures in itertools.combinations_with_replacement(range(base), many):
+        orders = math.factorial(many)
+        for figure in set(figures):
+            orders //= math.factorial(figures.count(figure))
+        counts[plain_end(sum(figure ** power for figure in figures), base, power)[1]] += orders
+    return tuple(counts.values())
+
+
 class CountsBelow(unittest.TestCase):
     def test_known_ones(self):
         for bound, base, power, counts in (
@@ -66,6 +79,15 @@ class CountsBelow(unittest.TestCase):
                 with self.subTest(bound=bound, base=base, power=power):
                     told = counts_below(bound, base, power)
                     self.assertEqual(told, tuple(ends[:bound].count(least) for least in leasts))
+
+    def test_great_powers_of_the_base_by_handfuls_of_figures(self):
+        for base, power, many in (
+            (2, 1, 79), (2, 10, 79), (3, 2, 50), (3, 9, 50), (4, 6, 25), (5, 4, 12), (7, 3, 9),
+            (9, 3, 7), (10, 2, 7), (10, 3, 7), (11, 3, 6), (16, 2, 5),
+        ):
+            with self.subTest(base=base, power=power, many=many):
+                told = counts_below(base ** many, base, power)
+                self.assertEqual(told, counts_by_handfuls(many, base, power))
 
     def test_the_counts_together_are_the_bound(self):
         for base, power in PAIRS:
