@@ -3,7 +3,9 @@
 import unittest
 
 from figurerounds.counts.below import counts_below, nth_in, place_of
-from figurerounds.errors import NoNumber, NoRound
+from figurerounds.counts.runs import first_run, longest_run
+from figurerounds.counts.shares import greatest_share, shares_of
+from figurerounds.errors import FigureError, NoNumber, NoRound
 from figurerounds.figures.least import how_many_with, least_away, least_with
 from figurerounds.figures.own import own_numbers
 from figurerounds.figures.written import (
@@ -13,8 +15,10 @@ from figurerounds.figures.written import (
     row_from,
     step_of,
 )
+from figurerounds.kept import KeptNumber
 from figurerounds.rounds.down import greatest_kept, length_down, length_shown
 from figurerounds.rounds.ends import end_of, end_paper, ends_of, paper_shown, rounds_of
+from figurerounds.whole import Desk
 from tests.plain import PAIRS
 
 
@@ -42,7 +46,32 @@ def all_told(base, power):
     told.append(least_away(2, base, power))
     for least in (0, 1, told[-1] or 0):
         told.append(nth_or_refused(5, least, base, power))
+    for many in (1, 2, 5):
+        told.append(shares_of(many, base, power))
+        told.append(greatest_share(many, 1, base, power))
+        told.append(first_run(many, 900, 1, base, power))
+    for bound in (0, 900, 10 ** 5):
+        told.append(longest_run(bound, 1, base, power))
+    return told + desk_told(base, power)
+
+
+def desk_told(base, power):
+    desk = Desk()
+    told = []
+    for line in (
+        f"pair {base} {power}", "put 1", "put 0", "show", "step", "ends", "rounds", "greatest", "length", "of 101",
+        "least 7", "count 1101", "place 1 8", "place 0 8", "set 0 1", "show", "off", "show", "put x", "set 1 1",
+        "of 9z", "place 1111 1", "other",
+    ):
+        told.append(answer_or_refused(desk, line))
     return told
+
+
+def answer_or_refused(desk, line):
+    try:
+        return desk.ask(line)
+    except FigureError as refusal:
+        return (type(refusal), str(refusal))
 
 
 def nth_or_refused(place, least, base, power):
@@ -61,6 +90,40 @@ class AskedAgain(unittest.TestCase):
         first = {pair: all_told(*pair) for pair in PAIRS}
         for pair in reversed(PAIRS):
             self.assertEqual(all_told(*pair), first[pair])
+
+    def test_behind_great_ones(self):
+        for base, power in PAIRS:
+            before = all_told(base, power)
+            counts_below(10 ** 24, base, power)
+            nth_in(10 ** 12, 1, base, power)
+            how_many_with(9, base, power, 12)
+            longest_run(10 ** 5, 1, base, power)
+            self.assertEqual(all_told(base, power), before)
+
+    def test_behind_other_desks_lines_and_seven_hundred_deeds(self):
+        before = all_told(10, 2)
+        number = KeptNumber(10, 2)
+        desk = Desk()
+        for deed in range(230):
+            number.put_figure(deed % 10)
+            desk.ask(f"put {deed % 10}")
+            number.set_figure(0, 1)
+            desk.ask("set 0 1")
+            if deed > 30:
+                number.take_off()
+                desk.ask("off")
+        told = (number.number_now(), number.step_now(), number.end_now(), desk.ask("show"), desk.ask("ends"))
+        self.assertEqual(all_told(10, 2), before)
+        self.assertEqual(
+            told, (number.number_now(), number.step_now(), number.end_now(), desk.ask("show"), desk.ask("ends"))
+        )
+
+    def test_nothing_that_is_handed_in_is_changed(self):
+        row, paper = (5, 5, 99, 0), (7, 49, 97, 130, 10, 1, 1)
+        kept = (tuple(list(row)), tuple(list(paper)))
+        ends_of(row, 10, 2)
+        paper_shown(7, 10, 2, paper)
+        self.assertEqual((row, paper), kept)
 
     def test_behind_a_refusal(self):
         before = all_told(10, 2)

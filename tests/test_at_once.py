@@ -12,9 +12,15 @@ GREATEST_OF_ALL = """
 import time
 
 from figurerounds.counts.below import counts_below, nth_in, place_of
+from figurerounds.counts.runs import first_run, longest_run
+from figurerounds.counts.shares import greatest_share, shares_of
 from figurerounds.figures.least import how_many_with, least_away, least_with
 from figurerounds.figures.own import own_numbers
+from figurerounds.figures.written import number_shown
+from figurerounds.kept import KeptNumber
+from figurerounds.rounds.down import greatest_kept
 from figurerounds.rounds.ends import end_of, end_paper, ends_of, paper_shown, rounds_of
+from figurerounds.whole import Desk
 from tests.plain import PAIRS
 
 NUMBER = 16 ** 40 - 1
@@ -36,6 +42,33 @@ def asked(base, power):
         yield nth_in, (10 ** 12, turn[0])
     for steps in (1, 8, 12):
         yield least_away, (steps,)
+    yield greatest_kept, ()
+    yield shares_of, (12,)
+    for turn in rounds_of(base, power)[-2:]:
+        yield greatest_share, (12, turn[0])
+        yield first_run, (12, 10 ** 5, turn[0])
+        yield longest_run, (10 ** 5, turn[0])
+
+
+def long_number(base, power):
+    number = KeptNumber(base, power)
+    for _ in range(40):
+        number.put_figure(base - 1)
+    for deed in range(660):
+        number.set_figure(deed % 40, 1 + deed % (base - 1))
+        number.step_now()
+        number.end_now()
+
+
+def desk_lines(base, power):
+    desk = Desk()
+    desk.ask(f"pair {base} {power}")
+    for _ in range(40):
+        desk.ask("put 1")
+    least = number_shown(rounds_of(base, power)[-1][0], base)
+    for line in ("show", "step", "ends", "rounds", "greatest", "length", "of " + "1" * 40, "least 99999",
+                 "count " + number_shown(10 ** 12, base), f"place {least} 999999999999"):
+        desk.ask(line)
 
 
 def too_long(function, given):
@@ -52,6 +85,8 @@ for base, power in PAIRS:
     for total in (12 * (base - 1) ** power, 99999):
         too_long(how_many_with, (total, base, power, 12))
     too_long(paper_shown, (NUMBER, base, power, LONG))
+    too_long(long_number, (base, power))
+    too_long(desk_lines, (base, power))
 for base in range(2, 17):
     too_long(own_numbers, (base, 6))
 print("done")

@@ -96,6 +96,16 @@ class CountsBelow(unittest.TestCase):
                 self.assertEqual(sum(told), bound)
                 self.assertEqual(len(told), len(plain_rounds(base, power)))
 
+    def test_somewhat_beyond_the_greatest_bounds(self):
+        for base, power in ((2, 3), (3, 5), (7, 2), (10, 2), (13, 2), (16, 1)):
+            leasts = leasts_of(base, power)
+            for bound in (10 ** 25, 10 ** 27, base ** 9 * 10 ** 19 + 5):
+                below = counts_below(bound, base, power)
+                above = counts_below(bound + 1, base, power)
+                self.assertEqual(sum(below), bound)
+                more = [after - before for before, after in zip(below, above)]
+                self.assertEqual(more, [int(other == plain_end(bound, base, power)[1]) for other in leasts])
+
     def test_a_bound_one_greater_counts_one_more_where_that_number_ends(self):
         for base, power in PAIRS:
             leasts = leasts_of(base, power)

@@ -21,6 +21,17 @@ LISTED = {
     "figurerounds.figures.own": ("own_numbers",),
     "figurerounds.figures.least": ("least_with", "how_many_with", "least_away"),
     "figurerounds.counts.below": ("counts_below", "nth_in", "place_of"),
+    "figurerounds.counts.shares": ("shares_of", "greatest_share"),
+    "figurerounds.counts.runs": ("first_run", "longest_run"),
+    "figurerounds.kept": ("KeptNumber",),
+    "figurerounds.whole": ("Desk",),
+}
+
+METHODS = {
+    ("figurerounds.kept", "KeptNumber"): (
+        "put_figure", "take_off", "set_figure", "number_now", "step_now", "end_now",
+    ),
+    ("figurerounds.whole", "Desk"): ("ask",),
 }
 
 
@@ -31,6 +42,13 @@ class Layout(unittest.TestCase):
             for name in names:
                 with self.subTest(module=module_name, name=name):
                     self.assertEqual(getattr(module, name).__module__, module_name)
+
+    def test_each_listed_method_is_defined_in_its_class(self):
+        for (module_name, name), methods in METHODS.items():
+            made = getattr(importlib.import_module(module_name), name)
+            for method in methods:
+                with self.subTest(name=name, method=method):
+                    self.assertIn(method, vars(made))
 
     def test_only_python_files_and_folders_with_an_init(self):
         for path in [PACKAGE, *PACKAGE.rglob("*")]:

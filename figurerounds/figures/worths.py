@@ -1,6 +1,7 @@
 """What figures are worth once taken to the power, and in how many ways they make each sum."""
 
 from figurerounds.figures.written import power_of
+from figurerounds.shelf import from_shelf
 
 
 def worths_of(base, power):
@@ -8,12 +9,11 @@ def worths_of(base, power):
     return [power_of(figure, power) for figure in range(base)]
 
 
-def ways_of(many, worths):
+def ways_of(many, base, power):
     """In how many ways so many figures, noughts ahead among them, make each sum from 0 on."""
-    ways = [1]
-    for _ in range(many):
-        ways = one_figure_more(ways, worths)
-    return ways
+    if many == 0:
+        return [1]
+    return one_figure_more(from_shelf(ways_of, (many - 1, base, power)), worths_of(base, power))
 
 
 def one_figure_more(ways, worths):

@@ -2,13 +2,18 @@
 
 from figurerounds.errors import NoRound
 from figurerounds.figures.written import row_from, step_of
-from figurerounds.rounds.table import leasts_to
+from figurerounds.rounds.table import first_ends
+from figurerounds.shelf import from_shelf
 
 
 def rounds_of(base, power):
     """All rounds, each from its least number on, by their least numbers."""
-    leasts = leasts_to(0, base, power)
-    firsts = [number for number, least in enumerate(leasts) if number == least]
+    return from_shelf(rounds_made, (base, power))
+
+
+def rounds_made(base, power):
+    """All rounds, worked out anew."""
+    firsts = [number for number, end in enumerate(first_ends(base, power)) if end == (0, number)]
     return tuple([tuple(way_of(first, base, power)[0]) for first in firsts])
 
 

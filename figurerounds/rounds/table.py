@@ -1,36 +1,55 @@
-"""Where all numbers up to a bound end, in one table."""
+"""Where all numbers up to a bound end, in tables."""
 
 from figurerounds.figures.worths import worths_of
+from figurerounds.figures.written import power_of
 from figurerounds.rounds.down import length_down
-
-
-def ends_to(most, base, power):
-    """Where each number from 0 to most, or further, ends: pairs (steps away, least of its round).
-
-    Each round of the pair stands in the table whole.
-    """
-    worths = worths_of(base, power)
-    # Numbers of fewer figures than length_down step to sums of so few worths,
-    # and greater ones go down: so no step leads out of a table of this size.
-    enough = (length_down(base, power) - 1) * max(worths)
-    steps = steps_to(max(most, enough), worths)
-    ends = {}
-    for number in range(len(steps)):
-        add_ends(ends, steps, number)
-    return [ends[number] for number in range(len(steps))]
+from figurerounds.shelf import from_shelf
 
 
 def leasts_to(most, base, power):
     """The least number of the round in which each number from 0 to most, or further, ends."""
-    return [least for _, least in ends_to(most, base, power)]
+    leasts = [least for _, least in first_ends(base, power)]
+    steps = steps_to(most, worths_of(base, power))
+    for number in range(len(leasts), len(steps)):
+        leasts.append(leasts[steps[number]])
+    return leasts
+
+
+def aways_to(most, base, power):
+    """How many steps each number from 0 to most, or further, is away from its round."""
+    aways = [away for away, _ in first_ends(base, power)]
+    steps = steps_to(most, worths_of(base, power))
+    for number in range(len(aways), len(steps)):
+        aways.append(aways[steps[number]] + 1)
+    return aways
+
+
+def first_ends(base, power):
+    """Where each number ends as far as rounds go: pairs (steps away, least of its round).
+
+    Each number behind these is in no round, and its step stands ahead of it.
+    """
+    # Numbers of fewer figures than length_down step to sums of so few worths,
+    # and greater ones go down: so no step leads out of a table of this size.
+    enough = (length_down(base, power) - 1) * power_of(base - 1, power)
+    return from_shelf(ends_within, (enough, base, power))
+
+
+def ends_within(most, base, power):
+    """Where each number from 0 to most ends, where no step leads beyond: pairs as above."""
+    steps = steps_to(most, worths_of(base, power))
+    ends = {}
+    for number in range(most + 1):
+        add_ends(ends, steps, number)
+    return [ends[number] for number in range(most + 1)]
 
 
 def steps_to(most, worths):
     """The steps of the numbers from 0 to most, or a little further."""
-    base = len(worths)
+    ahead = most // len(worths) + 1
     steps = list(worths)
-    for number in range(base, most + 1):
-        steps.append(steps[number // base] + worths[number % base])
+    while len(steps) <= most:
+        steps = [step + worth for step in steps[:ahead] for worth in worths]
     return steps
 
 
